@@ -148,7 +148,8 @@ func (m *model) typ() api.Node {
 func (m *model) plainName() api.Node {
 	t := m.name()
 	n := node(api.NName, t.At, t.Text)
-	if m.skip(".") {
+	if m.sees(".") && m.ahead(1).Kind == api.TName {
+		m.need(".")
 		n = node(api.NDot, t.At, m.name().Text, n)
 	}
 	return n
