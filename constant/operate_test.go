@@ -263,72 +263,79 @@ func TestNamedComparisons(t *testing.T) {
 	}
 }
 
-// Answers that are just as great as they may be, and just beyond.
-func TestGreatAnswers(t *testing.T) {
-	number := func(kind int, r *big.Rat) sample { return sample{number(kind, r), r} }
+// great is an operation whose answer is just as great as it may be, or just beyond.
+type great struct {
+	a    *big.Rat
+	op   string
+	b    *big.Rat
+	fits bool
+}
+
+func (g great) expect(t *testing.T, kindA, kindB int) {
+	t.Helper()
+	a, b := sample{number(kindA, g.a), g.a}, sample{number(kindB, g.b), g.b}
+	expectBinary(t, g.op, a, b)
+	if _, ok := constant.Binary(g.op, a.Const, b.Const); ok != g.fits {
+		t.Errorf("P10.2: %s %s %s: %v", a, g.op, b, ok)
+	}
+}
+
+func inverse(r *big.Rat) *big.Rat {
+	return new(big.Rat).Inv(r)
+}
+
+func TestGreatWholes(t *testing.T) {
 	half, one, two, top := power(api.MaxBits-1), rat("1"), rat("2"), most()
-	inverse := func(r *big.Rat) *big.Rat { return new(big.Rat).Inv(r) }
-	for _, c := range []struct {
-		a    *big.Rat
-		op   string
-		b    *big.Rat
-		fits bool
-	}{
+	for _, g := range []great{
 		{plus(top, -1), "+", one, true}, {top, "+", one, false}, {one, "+", top, false}, {half, "+", half, false}, {half, "+", plus(half, -1), true},
 		{minus(top), "-", one, false}, {plus(minus(top), 1), "-", one, true}, {top, "-", top, true}, {top, "-", minus(one), false},
 		{half, "*", one, true}, {half, "*", two, false}, {half, "*", minus(two), false}, {power(4096), "*", power(4095), true}, {power(4096), "*", power(4096), false},
 		{plus(power(4096), -1), "*", plus(power(4096), 1), true}, {top, "*", top, false}, {top, "*", minus(one), true},
 	} {
-		for _, kinds := range [][2]int{{api.CInt, api.CInt}, {api.CInt, api.CFloat}, {api.CFloat, api.CInt}, {api.CFloat, api.CFloat}} {
-			a, b := number(kinds[0], c.a), number(kinds[1], c.b)
-			expectBinary(t, c.op, a, b)
-			if _, ok := constant.Binary(c.op, a.Const, b.Const); ok != c.fits {
-				t.Errorf("P10.2: %s %s %s: %v", a, c.op, b, ok)
-			}
-		}
+		g.expect(t, api.CInt, api.CInt)
+		g.expect(t, api.CInt, api.CFloat)
+		g.expect(t, api.CFloat, api.CInt)
+		g.expect(t, api.CFloat, api.CFloat)
 	}
-	for _, c := range []struct {
-		a    *big.Rat
-		op   string
-		b    *big.Rat
-		fits bool
-	}{
+	for _, g := range []great{
+		{minus(top), "&", minus(two), false}, {minus(top), "&", minus(one), true}, {minus(top), "|", minus(two), true}, {top, "^", minus(one), false}, {plus(top, -1), "^", minus(one), true},
+		{minus(top), "&^", one, false}, {minus(half), "^", plus(half, -1), true}, {minus(half), "^", half, false}, {top, "|", one, true}, {half, "^", plus(half, -1), true},
+		{top, "/", minus(one), true}, {top, "%", half, true},
+	} {
+		g.expect(t, api.CInt, api.CInt)
+	}
+}
+
+func TestGreatFractions(t *testing.T) {
+	half, one, two, top := power(api.MaxBits-1), rat("1"), rat("2"), most()
+	for _, g := range []great{
 		{one, "/", half, true}, {one, "/", top, true}, {inverse(half), "/", two, false}, {inverse(half), "*", inverse(two), false}, {inverse(half), "+", one, true}, {inverse(half), "+", two, false},
 		{inverse(half), "*", two, true}, {one, "-", inverse(half), true}, {top, "*", inverse(half), true}, {top, "/", inverse(two), false}, {inverse(top), "+", inverse(top), true},
 		{inverse(half), "-", inverse(half), true}, {inverse(power(4096)), "*", inverse(power(4095)), true}, {inverse(power(4096)), "*", inverse(power(4096)), false},
 		{inverse(power(4096)), "+", power(4095), true}, {inverse(power(4096)), "+", power(4096), false},
 	} {
-		a, b := number(api.CFloat, c.a), number(api.CFloat, c.b)
-		expectBinary(t, c.op, a, b)
-		if _, ok := constant.Binary(c.op, a.Const, b.Const); ok != c.fits {
-			t.Errorf("P10.2: %s %s %s: %v", a, c.op, b, ok)
-		}
+		g.expect(t, api.CFloat, api.CFloat)
 	}
+}
+
+func TestGreatUnary(t *testing.T) {
+	top := most()
 	for _, c := range []struct {
-		a    *big.Rat
 		op   string
-		b    *big.Rat
-		fits bool
+		kind int
+		r    *big.Rat
+		want string
 	}{
-		{minus(top), "&", minus(two), false}, {minus(top), "&", minus(one), true}, {minus(top), "|", minus(two), true}, {top, "^", minus(one), false}, {plus(top, -1), "^", minus(one), true},
-		{minus(top), "&^", one, false}, {minus(half), "^", plus(half, -1), true}, {minus(half), "^", half, false}, {top, "|", one, true}, {half, "^", plus(half, -1), true},
+		{"-", api.CInt, top, minus(top).Num().String()},
+		{"-", api.CFloat, minus(top), "float " + top.Num().String() + "/1"},
+		{"+", api.CFloat, inverse(top), "float 1/" + top.Num().String()},
+		{"^", api.CInt, plus(top, -1), minus(top).Num().String()},
+		{"^", api.CInt, top, none},
+		{"^", api.CInt, minus(top), plus(top, -1).Num().String()},
 	} {
-		a, b := number(api.CInt, c.a), number(api.CInt, c.b)
-		expectBinary(t, c.op, a, b)
-		if _, ok := constant.Binary(c.op, a.Const, b.Const); ok != c.fits {
-			t.Errorf("P10.2: %s %s %s: %v", a, c.op, b, ok)
+		if got := tell(constant.Unary(c.op, number(c.kind, c.r))); got != c.want {
+			t.Errorf("P10.2: %s of %s: %s, not %s", c.op, brief(c.r.String()), brief(got), brief(c.want))
 		}
-	}
-	for _, kind := range []int{api.CInt, api.CFloat} {
-		if _, ok := constant.Unary("-", number(kind, top).Const); !ok {
-			t.Error("P10.2: minus the greatest")
-		}
-	}
-	if got := tell(constant.Unary("^", number(api.CInt, top).Const)); got != none {
-		t.Error("P10.2: ^ of the greatest has a bit too many")
-	}
-	if got := tell(constant.Unary("^", number(api.CInt, minus(top)).Const)); got != plus(top, -1).Num().String() {
-		t.Error("P10.2: ^ of the least")
 	}
 }
 
