@@ -13,10 +13,10 @@ func Text(t api.Type) string {
 	if !May(t) {
 		return ""
 	}
-	return textOf(settled(t))
+	return textOf(t)
 }
 
-// textOf is the text of a settled type.
+// textOf is the text of a type that may be.
 func textOf(t api.Type) string {
 	switch t.Kind {
 	case api.KBasic, api.KNamed:
@@ -87,11 +87,18 @@ func textsOfMethods(t api.Type) []string {
 }
 
 func textsOfUnions(t api.Type) []string {
-	return slices.Sorted(slices.Values(mapped(t.Sets, textOfUnion)))
+	return risingOnce(mapped(t.Sets, textOfUnion))
 }
 
 func textOfUnion(union []api.Term) string {
-	return strings.Join(slices.Sorted(slices.Values(mapped(union, textOfTerm))), "|")
+	return strings.Join(risingOnce(mapped(union, textOfTerm)), "|")
+}
+
+// risingOnce puts texts in order, each once. It goes by the texts and not by what they are of, as two types that are not
+// identical may have one text (see Eq).
+func risingOnce(texts []string) []string {
+	slices.Sort(texts)
+	return slices.Compact(texts)
 }
 
 func textOfTerm(t api.Term) string {

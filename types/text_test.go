@@ -90,23 +90,6 @@ func TestUnionsRiseByBytes(t *testing.T) {
 	}
 }
 
-// The text of a method that is called `func` is that of a union of one function: there are no words by which to tell
-// them apart, but they are not identical.
-func TestMethodFunc(t *testing.T) {
-	method, term := methods(member{name: "func", t: function(integer)}), sets(union(only(function(integer))))
-	for _, x := range []api.Type{method, term} {
-		if got := types.Text(x); got != "interface{func() int}" || !types.May(x) {
-			t.Errorf("P11.2: %q", got)
-		}
-	}
-	if types.Eq(method, term) || !types.Eq(method, deepCopy(method)) || !types.Eq(term, deepCopy(term)) {
-		t.Error("P11.1: a method and a union are identical")
-	}
-	if types.Eq(sets(union(only(method), only(term))), sets(union(only(term)))) {
-		t.Error("P11.1: two terms are as one")
-	}
-}
-
 func TestLongTexts(t *testing.T) {
 	long := strings.Repeat("x", 1<<20)
 	if got, want := types.Text(slice(param(long))), "[]$1048576:"+long; got != want {
