@@ -1,0 +1,144 @@
+package typeset_test
+
+import (
+	"fmt"
+	"strings"
+	"testing"
+
+	"sterling/api"
+	"sterling/env"
+	"sterling/typeset"
+)
+
+func TestComparable(t *testing.T) {
+	w := declared(t, `
+		type My int
+		type Text string
+		type List []int
+		type Table map[int]int
+		type Run func()
+		type At *List
+		type Rows struct{a int; b [2]string; At}
+		type Bad struct{a int; List}
+		type Face interface{List() []int; M()}
+		type Num interface{~int | string}
+		type Key comparable
+		type Keys interface{comparable}
+		type Box[A any] struct{a A}
+		type Pair[A any, B any] struct{a Box[A]; b [0]B}
+		type To[A any] struct{a *A}
+		type Other Box[Face]
+		type Chain struct{next *Chain; a any}
+		type Loop Loop`)
+	w.expectComparable(t, true, "bool", "string", "int", "int8", "uint8", "uint", "float32", "float64", "*int", "*[]int", "*func()", "*comparable", "*Loop",
+		"My", "Text", "At", "Rows", "Face", "Num", "Key", "Keys", "Chain", "Other", "error", "any", "interface{M()}", "interface{int | string}", "interface{[]int}", "interface{~[]int | func()}",
+		"Box[int]", "Box[Face]", "Box[Box[any]]", "Pair[int,string]", "Pair[error,Rows]", "To[[]int]", "To[Loop]", "Box[To[List]]",
+		"[3]int", "[0]int", "[2][2]error", "[0]any", "[1]Num", "[1048576]My", "struct{}", "struct{a int; b string}", "struct{My; *List; error}", "struct{_ int; _ any}", "[1]struct{a [2]Rows}")
+	w.expectComparable(t, false, "[]int", "[]Loop", "map[int]int", "func()", "func() int", "List", "Table", "Run", "Bad", "Loop", "comparable",
+		"[3][]int", "[0][]int", "[0]func()", "[0]comparable", "[2]List", "[0]Loop", "struct{a []int}", "struct{a int; b map[int]int}", "struct{List}", "struct{_ func()}", "struct{comparable}", "struct{a Loop}",
+		"Box[[]int]", "Box[List]", "Box[comparable]", "Pair[List,int]", "Pair[int,Run]", "Box[Box[Table]]", "[1]struct{a [0]Bad}", "struct{a [1]Box[List]}",
+		"None", "[1]None", "*None", "struct{a None}")
+	for _, x := range []struct {
+		t    api.Type
+		want bool
+	}{
+		{null, true}, {void, false}, {whole, false}, {api.Type{Kind: api.KUntyped, Name: "bool"}, false}, {api.Type{}, false}, {of(14), false}, {of(-1), false},
+		{array(-1, integer), false}, {array(2, null), false}, {named("p.Box"), false}, {named("p.My", integer), false}, {basic("x"), false}, {param("P"), false}, {array(0, param("P")), false},
+		{pointer(param("P")), true}, {api.Type{Kind: api.KNil, Len: 1}, false}, {api.Type{Kind: api.KPointer}, false},
+	} {
+		if typeset.Comparable(w.Env, x.t) != x.want {
+			t.Errorf("P14.2: Comparable of %v is %v", x.t, !x.want)
+		}
+	}
+}
+
+func TestComparableParameters(t *testing.T) {
+	w := declared(t, `
+		type My int
+		type List []int
+		type Num interface{~int | string | My}
+		type Box[A any] struct{a A}
+		type Of[A comparable, B any, C Num, D int, E []int, F interface{B; comparable}, G A, H B] struct{}
+		type Faces [2]any
+		type To[A any] struct{a *A}
+		type Self interface{Self}
+		func further[
+			A any, B comparable, C Num, D int, E []int, F int | []int, G interface{int | []int; int | string}, H interface{int; string}, I interface{[]int; comparable},
+			J interface{M()}, K interface{M(); Num}, L [2]any | struct{a error}, M ~[2]any, N interface{[2]any | int}, O Box[any], P error, Q error | int, R Faces | My,
+			S List, T ~List | int, U C, V A, W Box[A], X Box[C], Y Self, Z interface{~[]int; ~string}, AA interface{Self; comparable}, BB interface{int | Faces}, CC interface{interface{comparable}},
+			DD *[]int | int]() {}`)
+	w.expectComparable(t, true, strings.Fields("B C D G H I K L M N O Q R U X Z CC DD Of__0 Of__2 Of__3 Of__5 Of__6 *A *E [1]B Box[B] Box[L] Box[Box[I]] To[A] To[E] Of[int,int,int,int,int,int,int,int]")...)
+	w.expectComparable(t, true, "struct{a C}", "struct{a [2]B; b D}")
+	w.expectComparable(t, false, "struct{a A}", "struct{a C; b [0]E}")
+	w.expectComparable(t, false, strings.Fields("A E F J P S T V W Y AA Of__1 Of__4 Of__7 [0]A [1]E Box[A] Box[E] Box[F] []B [2]V")...)
+}
+
+// A type parameter is not comparable by a type of its set that holds it.
+func TestComparableParametersThatAreHeld(t *testing.T) {
+	w := declared(t, `
+		type Box[A any] struct{a A}
+		type To[A any] struct{a *A}
+		type Of[A [2]A, B Box[B], C To[C] | int] struct{}
+		func further[
+			A [2]A, B struct{a B}, C [0]C | int, D Box[D], E int | Box[[3]Box[E]], F F, G struct{a H}, H struct{a G}, I ~[1]I,
+			J *J | int, K To[K], L struct{a *L; b interface{M(L)}}, M interface{[2]M; comparable}, N struct{a [2]M; b J}, O [1]A | int, P interface{~[2]P | int; int}]() {}`)
+	w.expectComparable(t, false, "A", "B", "C", "D", "E", "F", "G", "H", "I", "O", "Of__0", "Of__1", "[1]A", "Box[E]")
+	w.expectComparable(t, true, "J", "K", "L", "M", "N", "P", "Of__2", "Box[M]", "*A", "To[B]")
+}
+
+// Types that hold themselves are met by a depth.
+func TestComparableThatNeverEnds(t *testing.T) {
+	w := declared(t, `
+		type A struct{a A}
+		type B [2]C
+		type C struct{a int; b B}
+		type Zero [0]Zero
+		type Grows[P any] struct{a Grows[[]P]}
+		type Swells[P any] struct{a Swells[Box[P]]; b Swells[[2]P]}
+		type Swaps[P any, Q any] struct{a Swaps[Q, P]}
+		type Box[P any] struct{a P}
+		type ToRing struct{a Box[A]}
+		type Fine struct{a *Fine; b interface{M(Fine)}; c *Grows[int]}
+		type Nested Box[Box[Box[int]]]
+		type Self interface{Self}
+		func further[P A, Q Zero | int, R Box[Grows[int]], S Fine]() {}`)
+	w.expectComparable(t, false, "A", "B", "C", "Zero", "Grows[int]", "Swells[int]", "Swaps[int,string]", "Swaps[int,int]", "ToRing", "Box[A]", "[0]A", "struct{a Zero}", "P", "Q", "R")
+	w.expectComparable(t, true, "Fine", "Nested", "S", "*A", "Box[Box[Box[Box[*A]]]]", "Self", "[2]Self", "interface{Self}")
+}
+
+// structs declares structs of which each has as many fields of the next one.
+func structs(count, fields int, last api.Type) []api.Decl {
+	var all []api.Decl
+	for i := range count {
+		under := api.Type{Kind: api.KStruct}
+		for k := range fields {
+			under.Names, under.Emb, under.Args = append(under.Names, fmt.Sprintf("f%d", k)), append(under.Emb, false), append(under.Args, named(fmt.Sprintf("p.I%d", i+1)))
+		}
+		if i == count-1 {
+			under = last
+		}
+		all = append(all, api.Decl{Name: fmt.Sprintf("p.I%d", i), Under: under})
+	}
+	return all
+}
+
+func TestComparableOfLongChains(t *testing.T) {
+	for _, x := range []struct {
+		length, fields int
+		last           api.Type
+		want           bool
+	}{
+		{20000, 1, integer, true}, {20000, 1, slice(integer), false}, {20000, 1, array(1, named("p.I0")), false}, {20000, 1, array(1, named("p.I19999")), false},
+		{500, 3, integer, true}, {500, 3, slice(integer), false}, {500, 3, structOf(false, "a", named("p.I250")), false},
+	} {
+		e, ok := env.New(structs(x.length, x.fields, x.last), nil)
+		if !ok {
+			t.Fatal("P13.1")
+		}
+		for _, asked := range []api.Type{named("p.I0"), array(2, named("p.I1"))} {
+			if typeset.Comparable(e, asked) != x.want || typeset.Satisfies(e, asked, asking) != x.want {
+				t.Errorf("P14.2: Comparable of %d structs of %d fields is %v", x.length, x.fields, !x.want)
+			}
+		}
+	}
+}
