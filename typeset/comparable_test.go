@@ -7,6 +7,7 @@ import (
 
 	"sterling/api"
 	"sterling/env"
+	"sterling/types"
 	"sterling/typeset"
 )
 
@@ -21,9 +22,7 @@ func TestComparable(t *testing.T) {
 		type Rows struct{a int; b [2]string; At}
 		type Bad struct{a int; List}
 		type Face interface{List() []int; M()}
-		type Num interface{~int | string}
 		type Key comparable
-		type Keys interface{comparable}
 		type Box[A any] struct{a A}
 		type Pair[A any, B any] struct{a Box[A]; b [0]B}
 		type To[A any] struct{a *A}
@@ -31,9 +30,9 @@ func TestComparable(t *testing.T) {
 		type Chain struct{next *Chain; a any}
 		type Loop Loop`)
 	w.expectComparable(t, true, "bool", "string", "int", "int8", "uint8", "uint", "float32", "float64", "*int", "*[]int", "*func()", "*comparable", "*Loop",
-		"My", "Text", "At", "Rows", "Face", "Num", "Key", "Keys", "Chain", "Other", "error", "any", "interface{M()}", "interface{int | string}", "interface{[]int}", "interface{~[]int | func()}",
+		"My", "Text", "At", "Rows", "Face", "Key", "Chain", "Other", "error", "any", "interface{M()}",
 		"Box[int]", "Box[Face]", "Box[Box[any]]", "Pair[int,string]", "Pair[error,Rows]", "To[[]int]", "To[Loop]", "Box[To[List]]",
-		"[3]int", "[0]int", "[2][2]error", "[0]any", "[1]Num", "[1048576]My", "struct{}", "struct{a int; b string}", "struct{My; *List; error}", "struct{_ int; _ any}", "[1]struct{a [2]Rows}")
+		"[3]int", "[0]int", "[2][2]error", "[0]any", "[1]Face", "[1048576]My", "struct{}", "struct{a int; b string}", "struct{My; *List; error}", "struct{_ int; _ any}", "[1]struct{a [2]Rows}")
 	w.expectComparable(t, false, "[]int", "[]Loop", "map[int]int", "func()", "func() int", "List", "Table", "Run", "Bad", "Loop", "comparable",
 		"[3][]int", "[0][]int", "[0]func()", "[0]comparable", "[2]List", "[0]Loop", "struct{a []int}", "struct{a int; b map[int]int}", "struct{List}", "struct{_ func()}", "struct{comparable}", "struct{a Loop}",
 		"Box[[]int]", "Box[List]", "Box[comparable]", "Pair[List,int]", "Pair[int,Run]", "Box[Box[Table]]", "[1]struct{a [0]Bad}", "struct{a [1]Box[List]}",
@@ -48,6 +47,129 @@ func TestComparable(t *testing.T) {
 	} {
 		if typeset.Comparable(w.Env, x.t) != x.want {
 			t.Errorf("P14.2: Comparable of %v is %v", x.t, !x.want)
+		}
+	}
+}
+
+// An interface that may stand only as a constraint is not comparable, wherever it stands.
+func TestComparableOfConstraints(t *testing.T) {
+	w := declared(t, `
+		type My int
+		type Face interface{M()}
+		type Wide interface{Face; error; interface{N()}}
+		type Key comparable
+		type Keys interface{Key; Face}
+		type Num interface{~int | string}
+		type Same Num
+		type Sames Same
+		type Asks interface{comparable}
+		type Leads interface{Num}
+		type Far interface{Face; interface{M(); Leads}}
+		type FarAsks interface{Face; interface{M(); interface{Asks}}}
+		type Empty interface{int; string}
+		type Is[A any] interface{A}
+		type Of[A any] interface{~[]A | int}
+		type In[A any] interface{M(A)}
+		type InTwo[A any] interface{In[A]; Is[In[[]A]]}
+		type Box[A any] struct{a A}
+		type Pair[A any] struct{a int; b [2]Box[A]}
+		type Two[A any, B any] struct{a A; b B}
+		type Held struct{a int; Num}
+		type Holder struct{a [1]Held}
+		type NoHolder struct{a *Held; b []Held; c func(Num)}
+		type NoHolderAtAll struct{a *Held; b interface{M(Num) Same}}
+		func further[A any, B Num, C interface{Num | bool}, D interface{[2]Num}, E interface{*Num}, F Asks, G Empty, H interface{[2]Num; comparable}]() {}`)
+	for _, x := range []struct {
+		want bool
+		all  string
+	}{
+		{true, "any error Face Wide Key Keys interface{Face} interface{Key} interface{Keys;error} interface{interface{}} interface{interface{error};M()} In[int] In[Num] InTwo[Num] Is[Face] Is[Key] Is[Is[any]]"},
+		{false, "comparable Num Same Sames Asks Leads Far FarAsks Empty Of[int] Is[int] Is[Num] Is[comparable] Is[Is[Num]] Is[A] Is[[2]Face] interface{InTwo__0|int} interface{InTwo__0}"},
+		{false, "interface{int} interface{~int} interface{int|string} interface{[]int} interface{~[]int|func()} interface{My} interface{int;string} interface{~Face} interface{Face|int} interface{Face|error} interface{~comparable}"},
+		{false, "interface{comparable} interface{M();comparable} interface{Num} interface{Same} interface{Asks} interface{interface{Asks}} interface{Face;Leads} interface{Face;Key;FarAsks} interface{B} interface{A} interface{*int}"},
+		{false, "Held Holder NoHolder [1]Held struct{a+int;b+Num} struct{Num} struct{error;Num} struct{a+Face;b+interface{int}} struct{a+Key;b+Asks} struct{a+Is[int]}"},
+		{true, "NoHolderAtAll struct{a+*Num} *Held *Num interface{M(Num)} interface{M()Asks} [2]interface{M(Num)} E B F G H"},
+		{false, "D A C"},
+	} {
+		for _, src := range strings.Fields(x.all) {
+			w.expectComparable(t, x.want, src, "[1]"+src, "[0]"+src, "[2][3]"+src, "struct{a int; b "+src+"}", "struct{a struct{b error; c [1]"+src+"}}",
+				"Box["+src+"]", "Box[Box["+src+"]]", "Pair["+src+"]", "Two[Face,"+src+"]", "Two["+src+",Key]", "[2]Two[Wide,Pair["+src+"]]")
+			w.expectComparable(t, true, "*"+src, "Box[*"+src+"]", "interface{M("+src+")}")
+		}
+	}
+	w.expectSatisfies(t, true, "comparable", "Face", "[2]Face", "Box[Wide]", "Two[Key,error]", "NoHolderAtAll")
+	w.expectSatisfies(t, false, "comparable", "Num", "[2]Num", "Box[Asks]", "Two[Key,Leads]", "Held", "Holder", "D")
+	w.expectSatisfies(t, true, "any", "[2]Num", "Box[Asks]", "Held")
+}
+
+// Constraint is asked of an interface to the same end as Comparable is.
+func TestComparableAsConstraint(t *testing.T) {
+	w := declared(t, `
+		type Self interface{Self}
+		type Ring interface{M(); Round}
+		type Round interface{Ring}
+		type With interface{int; With}
+		type Grows[P any] interface{Grows[[]P]}
+		type Num interface{~int | string}
+		type Beside interface{Num}
+		type Is[A any] interface{A}`)
+	for _, src := range strings.Fields("any error comparable Num Beside Self Ring Round With Grows[int] Is[Self] Is[Num] interface{Self} interface{Num;Self} interface{Self|int} interface{Ring;Grows[Num]} interface{Is[Beside]}") {
+		want := !typeset.Constraint(w.Env, w.says(t, src)) && src != "comparable"
+		w.expectComparable(t, want, src, "[2]"+src, "struct{a int; b "+src+"}")
+		// What never ends beside it hides no constraint, and makes none of it.
+		w.expectComparable(t, want, "struct{a Self; b "+src+"; c Grows[int]}", "struct{a With; b struct{c "+src+"; d error}}")
+		w.expectComparable(t, false, "struct{a "+src+"; b Self; c Num}", "struct{a Num; b Ring; c "+src+"}")
+	}
+}
+
+// Interfaces that embed the same ones are asked in one time.
+func TestComparableOfManyInterfaces(t *testing.T) {
+	const length, width = 20000, 1000
+	for why, x := range map[string]struct {
+		last api.Type
+		want bool
+	}{
+		"nothing": {anything, true}, "a method": {interfaceOf("M", function(void)), true}, "error": {sets(terms(only(named("error")))), true},
+		"a union": {sets(terms(only(integer))), false}, "comparable": {sets(terms(only(asking))), false},
+	} {
+		e, ok := env.New(chain(length, 1, x.last), nil)
+		if !ok {
+			t.Fatal("P13.1")
+		}
+		rows := api.Type{Kind: api.KStruct}
+		for i := range width {
+			face := sets(terms(only(named(fmt.Sprintf("p.I%d", i)))))
+			rows.Names, rows.Emb, rows.Args = append(rows.Names, fmt.Sprintf("f%d", i)), append(rows.Emb, false), append(rows.Args, face)
+		}
+		if typeset.Comparable(e, rows) != x.want {
+			t.Errorf("P14.2: Comparable of %d interfaces that lead to %s is %v", width, why, !x.want)
+		}
+	}
+}
+
+// Interfaces that together embed more kinds of one declared type than are gone over in one time are asked one by one.
+func TestComparableOfManyInstances(t *testing.T) {
+	const count, width = 66, 1000
+	all := api.Type{Kind: api.KStruct}
+	var rows []api.Decl
+	for k := range count {
+		row := api.Type{Kind: api.KStruct}
+		for i := range width {
+			face := sets(terms(only(named("p.In", array(width*k+i, integer)))))
+			row.Names, row.Emb, row.Args = append(row.Names, fmt.Sprintf("f%d", i)), append(row.Emb, false), append(row.Args, face)
+		}
+		rows = append(rows, api.Decl{Name: fmt.Sprintf("p.R%d", k), Under: row})
+		all.Names, all.Emb, all.Args = append(all.Names, fmt.Sprintf("f%d", k)), append(all.Emb, false), append(all.Args, named(fmt.Sprintf("p.R%d", k)))
+	}
+	w := declared(t, "type In[A any] interface{M(A)}; type Num interface{int | string}", rows...)
+	if count*width <= api.MaxCells || !typeset.Comparable(w.Env, all) {
+		t.Error("P14.2: many instances are not comparable")
+	}
+	for _, place := range []int{0, len(all.Args) - 1} {
+		with := types.Clone(all)
+		with.Args[place] = array(1, named("p.Num"))
+		if typeset.Comparable(w.Env, with) {
+			t.Errorf("P14.2: many instances are comparable, with a constraint at %d", place)
 		}
 	}
 }

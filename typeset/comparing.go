@@ -10,12 +10,14 @@ type comparing struct {
 	e          *env.Env
 	isStrictly bool
 	fails      bool
+	// faces are the interfaces that are met and that may be constraints.
+	faces []api.Type
 }
 
 func isComparable(e *env.Env, t api.Type, isStrictly bool) bool {
 	c := comparing{e: e, isStrictly: isStrictly}
 	goOver(c.parts(t), c.beneath)
-	return !c.fails
+	return !c.fails && !hasConstraint(e, c.faces)
 }
 
 // parts are the declared types and type parameters that t's being comparable hangs on.
@@ -27,6 +29,9 @@ func (c *comparing) parts(t api.Type) []api.Type {
 		return c.partsOfAll(t.Args)
 	case api.KInterface:
 		c.fails = c.fails || c.isStrictly
+		if len(t.Sets) > 0 {
+			c.faces = append(c.faces, t)
+		}
 	case api.KBasic, api.KPointer, api.KNil:
 	default:
 		c.fails = true

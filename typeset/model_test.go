@@ -161,7 +161,8 @@ func (m model) comparable(t api.Type, strictly bool, depth int) bool {
 	case api.KBasic, api.KPointer:
 		return true
 	case api.KInterface:
-		return !strictly
+		isConstraint, _ := attempt(func() bool { return m.hasUnions(under) || m.asks(under) })
+		return !strictly && !isConstraint
 	case api.KArray, api.KStruct:
 		return !slices.ContainsFunc(under.Args, func(x api.Type) bool { return !m.comparable(x, strictly, depth) })
 	case api.KParam:

@@ -51,10 +51,14 @@ func constraintSet(e *env.Env, c api.Type) set {
 	return set{e: e, unions: [][]api.Term{{{Type: c}}}}
 }
 
-// gathered is the set of an interface.
-func gathered(e *env.Env, t api.Type) set {
+// gathered is the set of an interface; of several ones, what they have together.
+func gathered(e *env.Env, faces ...api.Type) set {
 	s := set{e: e}
-	goOver(s.embed(t), s.takeDeclared)
+	var declared []api.Type
+	for _, t := range faces {
+		declared = append(declared, s.embed(t)...)
+	}
+	goOver(declared, s.takeDeclared)
 	return s
 }
 
@@ -114,6 +118,20 @@ func kindBeneath(e *env.Env, t api.Type) int {
 
 // isConstraint tells whether an interface with that set may stand only as a constraint.
 func (s set) isConstraint() bool { return len(s.unions) > 0 || s.asksComparable }
+
+// hasConstraint tells whether one of these interfaces may stand only as a constraint. They are asked all at once, since
+// many of them may embed the same ones; where that never ends, one by one.
+func hasConstraint(e *env.Env, faces []api.Type) bool {
+	var has bool
+	isTold := ends(func() bool {
+		has = gathered(e, faces...).isConstraint()
+		return true
+	})
+	if isTold {
+		return has
+	}
+	return slices.ContainsFunc(faces, func(t api.Type) bool { return Constraint(e, t) })
+}
 
 // methodsOnce are the methods by rising names, each once; false if two of one name have types that are not Eq.
 func (s set) methodsOnce() (names []string, sigs []api.Type, agree bool) {
