@@ -102,24 +102,86 @@ func TestComparableOfConstraints(t *testing.T) {
 	w.expectSatisfies(t, true, "any", "[2]Num", "Box[Asks]", "Held")
 }
 
-// Constraint is asked of an interface to the same end as Comparable is.
+// Constraint is asked of an interface to the same end as Comparable is, if its set ends.
 func TestComparableAsConstraint(t *testing.T) {
 	w := declared(t, `
 		type Self interface{Self}
 		type Ring interface{M(); Round}
 		type Round interface{Ring}
-		type With interface{int; With}
 		type Grows[P any] interface{Grows[[]P]}
 		type Num interface{~int | string}
 		type Beside interface{Num}
 		type Is[A any] interface{A}`)
-	for _, src := range strings.Fields("any error comparable Num Beside Self Ring Round With Grows[int] Is[Self] Is[Num] interface{Self} interface{Num;Self} interface{Self|int} interface{Ring;Grows[Num]} interface{Is[Beside]}") {
+	for _, src := range strings.Fields("any error comparable Num Beside Self Ring Round Grows[int] Is[Self] Is[Num] interface{Self} interface{Self|int} interface{Ring;Grows[Num]} interface{Is[Beside]}") {
 		want := !typeset.Constraint(w.Env, w.says(t, src)) && src != "comparable"
 		w.expectComparable(t, want, src, "[2]"+src, "struct{a int; b "+src+"}")
 		// What never ends beside it hides no constraint, and makes none of it.
-		w.expectComparable(t, want, "struct{a Self; b "+src+"; c Grows[int]}", "struct{a With; b struct{c "+src+"; d error}}")
+		w.expectComparable(t, want, "struct{a Self; b "+src+"; c Grows[int]}", "struct{a Ring; b struct{c "+src+"; d error}}")
 		w.expectComparable(t, false, "struct{a "+src+"; b Self; c Num}", "struct{a Num; b Ring; c "+src+"}")
 	}
+}
+
+// What embeds itself, too, stands only as a constraint if it has unions, asks for comparable, or embeds what does.
+func TestComparableOfConstraintsThatEmbedThemselves(t *testing.T) {
+	w := declared(t, `
+		type Union interface{Union; ~int | string}
+		type Asks interface{Asks; comparable}
+		type There interface{Back; ~int | string}
+		type Back interface{There}
+		type Number interface{~int | string}
+		type Leads interface{Leads; Number}
+		type One interface{int; One}
+		type Around interface{M(); Near}
+		type Near interface{interface{Around}; interface{Self; Far}}
+		type Far interface{Near; Farther}
+		type Farther interface{Around; interface{M(); comparable}}
+		type Same Union
+		type Grows[P any] interface{Grows[[]P]; ~[]P | int}
+		type Grown[P any] interface{Grown[[]P]; N(P)}
+		type Spreads[P any] interface{Grown[P]; Spreads[P]; comparable}
+		type Deep[P any] interface{Deeper[[]P]}
+		type Deeper[P any] interface{Deepest[[]P]}
+		type Deepest[P any] interface{Grown[P]; P | int}
+		type Self interface{Self}
+		type Ring interface{M(); Round}
+		type Round interface{Ring; error}
+		type Key comparable
+		type Keys interface{Key; Keys}
+		type Box[A any] struct{a A}
+		func further[P Union, Q interface{*Union}, R Number]() {}`, chain(40, 1, sets(terms(only(integer))))...)
+	deep := strings.Repeat("[]", 180)
+	never := strings.Fields("Union Asks There Back Leads One Around Near Far Farther Same Grows[int] Spreads[int] Deep[int] I0" +
+		" interface{Self;Number} interface{Number;Self} interface{Self;comparable} interface{M();Union} interface{interface{Back}} interface{Keys;int}" +
+		" interface{Deep[" + deep + "int]} interface{Deeper[" + deep + "int]} interface{Grows[" + deep + "int]}")
+	always := strings.Fields("Self Ring Round Keys interface{Self;Ring} interface{Ring;M();Keys} interface{Grown[" + deep + "int];Keys}")
+	for _, src := range never {
+		w.expectComparable(t, false, src, "[1]"+src, "[0]"+src, "struct{f "+src+"}", "Box["+src+"]", "[2]Box[struct{a Self; b "+src+"}]")
+		w.expectComparable(t, true, "*"+src, "interface{M("+src+")}")
+		w.expectSatisfies(t, false, "comparable", src, "[1]"+src)
+	}
+	for _, src := range always {
+		w.expectComparable(t, true, src, "[1]"+src, "[0]"+src, "struct{f "+src+"}", "Box["+src+"]", "[2]Box[struct{a Self; b "+src+"}]")
+		w.expectSatisfies(t, true, "comparable", "[1]"+src)
+	}
+	w.expectComparable(t, false, "P", "[2]P")
+	w.expectComparable(t, true, "Q", "R")
+	// What else is told of them stays.
+	w.expectConstraint(t, false, "Union", "Asks", "There", "Back", "Leads", "One", "Around", "Far", "Same", "Self", "Ring", "Grows[int]", "interface{Self;Number}")
+	for _, src := range strings.Fields("Union Asks There Back Leads One Around Same Self Grows[int] P") {
+		if tellTerms(w.Env, w.says(t, src)) != "no set" || tellMethods(w.Env, w.says(t, src)) != "no set" {
+			t.Errorf("P14.1: %s has a set", src)
+		}
+	}
+}
+
+// What leads to more and more instances hides nothing that stands far behind them, and makes no constraint.
+func TestComparableOfConstraintsBehindWideGrowth(t *testing.T) {
+	w := declared(t, `
+		type Wide[P any] interface{Wide[[]P]; Wide[*P]; Wide[func(P)]; N(P)}
+		type Late[P any] interface{Late[[]P]; Late[*P]; Late[func(P)]; I0}
+		type Other interface{I0; error}`, chain(40, 1, sets(terms(only(integer))))...)
+	w.expectComparable(t, true, "Wide[int]", "[2]Wide[error]", "struct{a error; b Wide[int]}")
+	w.expectComparable(t, false, "Late[int]", "[2]Late[error]", "interface{Wide[int]; Other}", "struct{a Wide[int]; b Other}", "struct{a Wide[int]; b Late[int]}")
 }
 
 // Interfaces that embed the same ones are asked in one time.

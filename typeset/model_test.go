@@ -143,6 +143,19 @@ func (m model) methods(face api.Type) (map[string]api.Type, bool) {
 	return all, agree
 }
 
+// standsOnlyAsConstraint goes no further where it comes back, or too deep.
+func (m model) standsOnlyAsConstraint(face api.Type, met map[string]bool, depth int) bool {
+	text := types.Text(face)
+	if met[text] || depth > modelDepth {
+		return false
+	}
+	met[text] = true
+	embedded, unions := m.parts(face)
+	return len(unions) > 0 || text == "comparable" || slices.ContainsFunc(embedded, func(inner api.Type) bool {
+		return m.standsOnlyAsConstraint(inner, met, depth+1)
+	})
+}
+
 func (m model) comparable(t api.Type, strictly bool, depth int) bool {
 	depth = deeper(depth)
 	if t.Kind == api.KParam {
@@ -161,8 +174,7 @@ func (m model) comparable(t api.Type, strictly bool, depth int) bool {
 	case api.KBasic, api.KPointer:
 		return true
 	case api.KInterface:
-		isConstraint, _ := attempt(func() bool { return m.hasUnions(under) || m.asks(under) })
-		return !strictly && !isConstraint
+		return !strictly && !m.standsOnlyAsConstraint(t, map[string]bool{}, 0)
 	case api.KArray, api.KStruct:
 		return !slices.ContainsFunc(under.Args, func(x api.Type) bool { return !m.comparable(x, strictly, depth) })
 	case api.KParam:

@@ -103,34 +103,56 @@ func isInterface(e *env.Env, t api.Type) bool { return kindBeneath(e, t) == api.
 
 // kindBeneath is the Kind of t's underlying type, also of one that is too great: it doesn't hang on t's arguments. It is
 // KNone if there is none.
-func kindBeneath(e *env.Env, t api.Type) int {
+func kindBeneath(e *env.Env, t api.Type) int { return declaredBeneath(e, t).Kind }
+
+// declaredBeneath is t's underlying type as its declaration has it: without arguments put for parameters.
+func declaredBeneath(e *env.Env, t api.Type) api.Type {
 	met := make(map[string]struct{})
 	for t.Kind == api.KNamed {
 		if _, isMet := met[t.Name]; isMet {
-			return api.KNone
+			return api.Type{}
 		}
 		met[t.Name] = struct{}{}
 		d, _ := e.Decl(t.Name)
 		t = d.Under
 	}
-	return t.Kind
+	return t
 }
 
 // isConstraint tells whether an interface with that set may stand only as a constraint.
 func (s set) isConstraint() bool { return len(s.unions) > 0 || s.asksComparable }
 
-// hasConstraint tells whether one of these interfaces may stand only as a constraint. They are asked all at once, since
-// many of them may embed the same ones; where that never ends, one by one.
+// mostPut is how many declared types are gone to with arguments put for parameters, to tell a constraint.
+const mostPut = api.MaxSize
+
+// hasConstraint tells whether one of these interfaces may stand only as a constraint. Each one that they embed is gone to
+// once, the nearest first: what embeds itself hides nothing that stands beside it.
 func hasConstraint(e *env.Env, faces []api.Type) bool {
-	var has bool
-	isTold := ends(func() bool {
-		has = gathered(e, faces...).isConstraint()
-		return true
-	})
-	if isTold {
-		return has
+	met := newNumbers()
+	for left := slices.Clone(faces); len(left) > 0; left = left[1:] {
+		s := set{e: e}
+		for _, t := range s.embed(left[0]) {
+			if t.Name == comparableName {
+				return true
+			}
+			if number, isNew := met.of(t); isNew {
+				left = append(left, standsFor(e, t, number < mostPut))
+			}
+		}
+		if s.isConstraint() {
+			return true
+		}
 	}
-	return slices.ContainsFunc(faces, func(t api.Type) bool { return Constraint(e, t) })
+	return false
+}
+
+// standsFor is the interface that t is declared as: as the declaration has it, if it is too great with t's arguments or they
+// are not wanted. Whether it may stand only as a constraint doesn't hang on them, as its unions are of no parameters.
+func standsFor(e *env.Env, t api.Type, withArgs bool) api.Type {
+	if under, has := e.Under(t); withArgs && has {
+		return under
+	}
+	return declaredBeneath(e, t)
 }
 
 // methodsOnce are the methods by rising names, each once; false if two of one name have types that are not Eq.
