@@ -3,16 +3,14 @@ package typeset_test
 import (
 	"fmt"
 	"slices"
-	"strconv"
 	"strings"
 	"testing"
 
 	"sterling/api"
 	"sterling/env"
-	"sterling/parseexpr"
-	"sterling/parsefile"
 	"sterling/types"
 	"sterling/typeset"
+	"sterling/worlds"
 )
 
 // What types are built of, by hand.
@@ -88,186 +86,24 @@ type world struct {
 	params []api.Var
 }
 
-// declared is the world of a text: the declarations of a file of a package p. The type parameters of a function that is
-// called `further` are further ones.
+// declared is the world of a text, and of other declarations.
 func declared(t *testing.T, src string, others ...api.Decl) world {
 	t.Helper()
-	file, at, ok := parsefile.File([]byte("package p\n" + src))
+	read, ok := worlds.Read(src, others...)
 	if !ok {
-		t.Fatalf("what is declared can't be read from %d on: %s", at, src)
+		t.Fatalf("P13.1: this can't be read, or is refused: %s", src)
 	}
-	w := world{decls: slices.Clone(others)}
-	for _, n := range file.Kids {
-		w.declare(n)
-	}
-	if w.Env, ok = env.New(w.decls, w.params); !ok {
-		t.Fatalf("P13.1: this is refused: %s", src)
-	}
-	return w
-}
-
-func (w *world) declare(n api.Node) {
-	switch {
-	case n.Kind == api.NType:
-		s := scope{}
-		d := api.Decl{Name: "p." + n.Text}
-		for i, p := range n.Kids[0].Kids {
-			s[p.Text] = fmt.Sprintf("%s#%d", d.Name, i)
-		}
-		for _, p := range n.Kids[0].Kids {
-			d.Params = append(d.Params, s.typeOf(p.Kids[0]))
-		}
-		d.Under = s.typeOf(n.Kids[1])
-		w.decls = append(w.decls, d)
-	case n.Kids[0].Kind == api.NParam:
-		w.declareMethod(n)
-	default:
-		s := scope{}
-		for _, p := range n.Kids[1].Kids {
-			s[p.Text] = p.Text
-		}
-		for _, p := range n.Kids[1].Kids {
-			w.params = append(w.params, api.Var{Name: p.Text, Type: s.typeOf(p.Kids[0])})
-		}
-	}
-}
-
-func (w *world) declareMethod(n api.Node) {
-	receiver := n.Kids[0].Kids[0]
-	m := api.Method{Name: n.Text, Ptr: receiver.Kind == api.NStar}
-	if m.Ptr {
-		receiver = receiver.Kids[0]
-	}
-	s := scope{}
-	if receiver.Kind == api.NIndex {
-		for i, arg := range receiver.Kids[1:] {
-			s[arg.Text] = fmt.Sprintf("p.%s#%d", receiver.Kids[0].Text, i)
-		}
-		receiver = receiver.Kids[0]
-	}
-	m.Sig = s.typeOf(n.Kids[2])
-	place := slices.IndexFunc(w.decls, func(d api.Decl) bool { return d.Name == "p."+receiver.Text })
-	w.decls[place].Methods = append(w.decls[place].Methods, m)
+	return world{read.Env, read.Decls, read.Params}
 }
 
 // says is the type that a text says, in which `+` may stand for a blank.
 func (w world) says(t *testing.T, src string) api.Type {
 	t.Helper()
-	n, ok := parseexpr.Type([]byte(strings.ReplaceAll(src, "+", " ")))
+	x, ok := worlds.World{Decls: w.decls, Params: w.params}.Type(strings.ReplaceAll(src, "+", " "))
 	if !ok {
 		t.Fatalf("this is no type: %s", src)
 	}
-	s := scope{}
-	for _, p := range w.params {
-		s[p.Name] = p.Name
-	}
-	for _, d := range w.decls {
-		for i := range d.Params {
-			_, name, _ := strings.Cut(d.Name, ".")
-			s[fmt.Sprintf("%s__%d", name, i)] = fmt.Sprintf("%s#%d", d.Name, i)
-		}
-	}
-	return s.typeOf(n)
-}
-
-// scope are the names of type parameters, as they are written and as they are.
-type scope map[string]string
-
-func (s scope) typeOf(n api.Node) api.Type {
-	switch n.Kind {
-	case api.NName:
-		return s.byName(n.Text)
-	case api.NDot:
-		return named(n.Kids[0].Text + "." + n.Text)
-	case api.NIndex:
-		return named(s.typeOf(n.Kids[0]).Name, s.typesOf(n.Kids[1:])...)
-	case api.NParen:
-		return s.typeOf(n.Kids[0])
-	case api.NArray:
-		length, _ := strconv.Atoi(n.Kids[0].Text)
-		return array(length, s.typeOf(n.Kids[1]))
-	case api.NSlice:
-		return slice(s.typeOf(n.Kids[0]))
-	case api.NStar:
-		return pointer(s.typeOf(n.Kids[0]))
-	case api.NMap:
-		return of(api.KMap, s.typesOf(n.Kids)...)
-	case api.NFuncType:
-		return s.function(n)
-	case api.NStruct:
-		return s.structOf(n)
-	case api.NInterface:
-		return s.interfaceOf(n)
-	}
-	panic("no type")
-}
-
-func (s scope) typesOf(list []api.Node) []api.Type {
-	var all []api.Type
-	for _, n := range list {
-		all = append(all, s.typeOf(n))
-	}
-	return all
-}
-
-func (s scope) byName(name string) api.Type {
-	if param, isParam := s[name]; isParam {
-		return api.Type{Kind: api.KParam, Name: param}
-	}
-	switch name {
-	case "any":
-		return anything
-	case "error", "comparable":
-		return named(name)
-	}
-	if t := types.Basic(name); t.Kind != api.KNone {
-		return t
-	}
-	return named("p." + name)
-}
-
-func (s scope) function(n api.Node) api.Type {
-	var params []api.Type
-	for _, p := range n.Kids[0].Kids {
-		params = append(params, s.typeOf(p.Kids[0]))
-	}
-	if n.Kids[1].Kind == api.NNone {
-		return function(void, params...)
-	}
-	return function(s.typeOf(n.Kids[1]), params...)
-}
-
-func (s scope) structOf(n api.Node) api.Type {
-	t := api.Type{Kind: api.KStruct}
-	for _, f := range n.Kids {
-		x := s.typeOf(f.Kids[0])
-		name := f.Text
-		if name == "" {
-			name = embedding(x).Names[0]
-		}
-		t.Names, t.Emb, t.Args = append(t.Names, name), append(t.Emb, f.Text == ""), append(t.Args, x)
-	}
-	return t
-}
-
-func (s scope) interfaceOf(n api.Node) api.Type {
-	t := api.Type{Kind: api.KInterface}
-	for _, part := range n.Kids {
-		if part.Kind == api.NMethod {
-			t.Names, t.Args = append(t.Names, part.Text), append(t.Args, s.typeOf(part.Kids[0]))
-			continue
-		}
-		var union []api.Term
-		for _, x := range part.Kids {
-			if x.Kind == api.NTilde {
-				union = append(union, tilde(s.typeOf(x.Kids[0])))
-			} else {
-				union = append(union, only(s.typeOf(x)))
-			}
-		}
-		t.Sets = append(t.Sets, union)
-	}
-	return t
+	return x
 }
 
 func expectMay(t *testing.T, x api.Type) {

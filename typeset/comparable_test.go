@@ -163,6 +163,16 @@ func TestComparableOfConstraintsThatEmbedThemselves(t *testing.T) {
 		w.expectComparable(t, true, src, "[1]"+src, "[0]"+src, "struct{f "+src+"}", "Box["+src+"]", "[2]Box[struct{a Self; b "+src+"}]")
 		w.expectSatisfies(t, true, "comparable", "[1]"+src)
 	}
+	// With such arguments what they embed is too great, whatever they are put for.
+	deepest := integer
+	for range api.MaxDepth - 3 {
+		deepest = slice(deepest)
+	}
+	for name, want := range map[string]bool{"p.Deep": false, "p.Grows": false, "p.Grown": true} {
+		if typeset.Comparable(w.Env, sets(terms(only(named(name, deepest))))) != want {
+			t.Errorf("P14.2: Comparable of %s, too great, is %v", name, !want)
+		}
+	}
 	w.expectComparable(t, false, "P", "[2]P")
 	w.expectComparable(t, true, "Q", "R")
 	// What else is told of them stays.

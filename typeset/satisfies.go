@@ -3,7 +3,7 @@ package typeset
 import (
 	"sterling/api"
 	"sterling/env"
-	"sterling/types"
+	"sterling/members"
 )
 
 // satisfies is of types that are known.
@@ -15,20 +15,20 @@ func satisfies(e *env.Env, t, c api.Type) bool {
 	case isInterface(e, t):
 		return doesInterfaceSatisfy(e, t, asked)
 	}
-	return isIn(e, t, asked) && asked.isWithMethods(func() map[string]api.Type { return methodSet(e, t) }) &&
+	return isIn(e, t, asked) && asked.areMethodsOf(t) &&
 		(!asked.asksComparable || isComparable(e, t, false))
 }
 
 func doesParamSatisfy(e *env.Env, t api.Type, asked set) bool {
 	own, isKnown := setOf(e, t)
-	return isKnown && isWithin(e, own, asked) && asked.isWithMethods(own.methodSet) &&
+	return isKnown && isWithin(e, own, asked) && asked.areMethodsOf(t) &&
 		(!asked.asksComparable || isComparable(e, t, true))
 }
 
 // doesInterfaceSatisfy doesn't ask whether t is comparable: it is, if it is no constraint.
 func doesInterfaceSatisfy(e *env.Env, t api.Type, asked set) bool {
 	own := gathered(e, t)
-	return !own.isConstraint() && len(asked.unions) == 0 && asked.isWithMethods(own.methodSet)
+	return !own.isConstraint() && len(asked.unions) == 0 && asked.areMethodsOf(t)
 }
 
 // isIn tells whether t, which has no set, is in each of asked's unions.
@@ -43,30 +43,8 @@ func isWithin(e *env.Env, own, asked set) bool {
 	return teller.meetAll(asked.unions).holdsAll(teller.meetAll(own.unions))
 }
 
-// isWithMethods tells whether s's methods are all among those that of gives, which is asked only if there are any.
-func (s set) isWithMethods(of func() map[string]api.Type) bool {
-	if len(s.methods) == 0 {
-		return true
-	}
+// areMethodsOf tells whether t has all of s's methods.
+func (s set) areMethodsOf(t api.Type) bool {
 	names, sigs, agree := s.methodsOnce()
-	if !agree {
-		return false
-	}
-	has := of()
-	for i, name := range names {
-		if !types.Eq(has[name], sigs[i]) {
-			return false
-		}
-	}
-	return true
-}
-
-// methodSet are the types of the methods by their names; none if they don't agree.
-func (s set) methodSet() map[string]api.Type {
-	names, sigs, _ := s.methodsOnce()
-	all := make(map[string]api.Type, len(names))
-	for i, name := range names {
-		all[name] = sigs[i]
-	}
-	return all
+	return agree && members.Of(s.e, t, Methods).Missing(names, sigs) == ""
 }
