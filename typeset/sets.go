@@ -6,6 +6,7 @@ import (
 
 	"sterling/api"
 	"sterling/env"
+	"sterling/numbers"
 	"sterling/types"
 )
 
@@ -128,14 +129,14 @@ const mostPut = api.MaxSize
 // hasConstraint tells whether one of these interfaces may stand only as a constraint. Each one that they embed is gone to
 // once, the nearest first: what embeds itself hides nothing that stands beside it.
 func hasConstraint(e *env.Env, faces []api.Type) bool {
-	met := newNumbers()
+	met := numbers.New()
 	for left := slices.Clone(faces); len(left) > 0; left = left[1:] {
 		s := set{e: e}
 		for _, t := range s.embed(left[0]) {
 			if t.Name == comparableName {
 				return true
 			}
-			if number, isNew := met.of(t); isNew {
+			if number, isNew := met.Of(t); isNew {
 				left = append(left, standsFor(e, t, number < mostPut))
 			}
 		}

@@ -7,16 +7,17 @@ import (
 
 	"sterling/api"
 	"sterling/env"
+	"sterling/numbers"
 	"sterling/types"
 )
 
 // teller tells terms apart by the numbers of their types.
 type teller struct {
 	e       *env.Env
-	numbers *numbers
+	numbers *numbers.Numbers
 }
 
-func newTeller(e *env.Env) teller { return teller{e, newNumbers()} }
+func newTeller(e *env.Env) teller { return teller{e, numbers.New()} }
 
 // term has the numbers of its type and of the one beneath that. With Tilde both are one: its type is an underlying one.
 type term struct {
@@ -67,17 +68,17 @@ func (t teller) unionOf(list []api.Term) union {
 // addTilde puts in the term with Tilde of that type, which has no types if nothing is beneath it.
 func (u *union) addTilde(x api.Type) {
 	if under, has := u.e.Under(x); has {
-		number, _ := u.numbers.of(under)
+		number, _ := u.numbers.Of(under)
 		u.add(term{api.Term{Tilde: true, Type: under}, number, number})
 	}
 }
 
 // plainTerm is the term without Tilde of that type.
 func (t teller) plainTerm(x api.Type) term {
-	number, _ := t.numbers.of(x)
+	number, _ := t.numbers.Of(x)
 	beneath := noNumber
 	if under, has := t.e.Under(x); has {
-		beneath, _ = t.numbers.of(under)
+		beneath, _ = t.numbers.Of(under)
 	}
 	return term{api.Term{Type: x}, number, beneath}
 }
@@ -132,7 +133,7 @@ func (u union) meet(v union) union {
 // told are the terms in the order in which they are told, in memory of their own.
 func (u union) told() []api.Term {
 	slices.SortStableFunc(u.terms, func(a, b term) int {
-		return cmp.Or(compareTilde(a, b), strings.Compare(u.numbers.texts[a.number], u.numbers.texts[b.number]))
+		return cmp.Or(compareTilde(a, b), strings.Compare(u.numbers.Text(a.number), u.numbers.Text(b.number)))
 	})
 	var told []api.Term
 	for _, x := range u.terms {
@@ -162,5 +163,5 @@ func (u union) underlying() (api.Type, bool) {
 			return api.Type{}, false
 		}
 	}
-	return types.Clone(u.numbers.types[first]), true
+	return types.Clone(u.numbers.Type(first)), true
 }

@@ -1,6 +1,9 @@
 package typeset
 
-import "sterling/api"
+import (
+	"sterling/api"
+	"sterling/numbers"
+)
 
 // endless is what is panicked with where a way never ends.
 type endless struct{}
@@ -28,7 +31,7 @@ const (
 
 // way is one on which declared types and type parameters lead to others.
 type way struct {
-	numbers *numbers
+	numbers *numbers.Numbers
 	isOpen  []bool
 	byName  map[string]meetings
 	steps   []step
@@ -50,7 +53,7 @@ type step struct {
 // type that stands on it, and where it is too deep, as its types are others again and again. (It keeps the steps by itself:
 // more types may be declared than calls can be nested.)
 func goOver(first []api.Type, leadsTo func(api.Type) []api.Type) {
-	w := way{numbers: newNumbers(), byName: make(map[string]meetings)}
+	w := way{numbers: numbers.New(), byName: make(map[string]meetings)}
 	for _, t := range first {
 		w.enter(t, leadsTo)
 		for len(w.steps) > 0 {
@@ -67,7 +70,7 @@ func goOver(first []api.Type, leadsTo func(api.Type) []api.Type) {
 }
 
 func (w *way) enter(t api.Type, leadsTo func(api.Type) []api.Type) {
-	number, isNew := w.numbers.of(t)
+	number, isNew := w.numbers.Of(t)
 	if !isNew {
 		if w.isOpen[number] {
 			panic(endless{})
